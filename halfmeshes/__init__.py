@@ -1,0 +1,1 @@
+"""Halfmeshes: routines on half-edge meshes, judged for all meshes."""

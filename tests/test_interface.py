@@ -1,0 +1,66 @@
+"""The interface: where its names are defined, and the names of their parameters."""
+
+import inspect
+import unittest
+from importlib import import_module
+
+CLASSES = {
+    ("errors", "MeshError"): {},
+    ("errors", "NotAMesh"): {"__init__": []},
+    ("errors", "BadLine"): {"__init__": ["line"]},
+    ("errors", "UnknownName"): {"__init__": ["line", "name"]},
+    ("errors", "WrongKind"): {"__init__": ["line", "name"]},
+    ("errors", "FactFails"): {"__init__": ["line"]},
+    ("errors", "Broken"): {"__init__": ["fault", "line"]},
+    ("errors", "NeverGiven"): {"__init__": []},
+    ("errors", "Breaks"): {"__init__": ["mesh", "halves"]},
+    ("errors", "UnknownDeed"): {"__init__": ["name"]},
+    ("errors", "UnknownMark"): {"__init__": ["name"]},
+    ("errors", "NothingToUndo"): {"__init__": []},
+    ("meshes", "Mesh"): {
+        "__init__": ["nexts"], "__eq__": ["other"], "__len__": [], "__contains__": ["half"],
+        "after": ["half"], "before": ["half"], "twin": ["half"], "turned": ["half"],
+        "nexts": [], "faces": [], "corners": [], "pieces": [], "counts": [], "text": [],
+        "is_one_face": ["first", "second"], "is_one_corner": ["first", "second"],
+    },
+}
+FUNCTIONS = {
+    ("meshes", "read_mesh"): ["text"],
+    ("likeness", "numbered"): ["mesh", "halves"],
+    ("likeness", "renaming"): ["first", "second", "pairs"],
+    ("likeness", "small_meshes"): ["edges", "named"],
+}
+
+
+def found(file, name):
+    return getattr(import_module("halfmeshes." + file), name)
+
+
+class Interface(unittest.TestCase):
+    def check(self, function, names):
+        parameters = list(inspect.signature(function).parameters.values())
+        self.assertEqual([one.name for one in parameters], names)
+        for one in parameters:
+            self.assertIs(one.default, one.empty)
+            self.assertIs(one.kind, one.POSITIONAL_OR_KEYWORD)
+
+    def test_functions(self):
+        for (file, name), names in FUNCTIONS.items():
+            self.assertEqual(found(file, name).__module__, "halfmeshes." + file)
+            self.check(found(file, name), names)
+
+    def test_classes(self):
+        for (file, name), methods in CLASSES.items():
+            self.assertEqual(found(file, name).__module__, "halfmeshes." + file)
+            for method, names in methods.items():
+                self.check(vars(found(file, name))[method], ["self"] + names)
+
+    def test_modules_keep_no_state(self):
+        for file in ("errors", "meshes", "likeness"):
+            values = [value for key, value in vars(import_module("halfmeshes." + file)).items()
+                      if not key.startswith("__")]
+            self.assertFalse([value for value in values if isinstance(value, (list, dict, set))])
+
+
+if __name__ == "__main__":
+    unittest.main()
