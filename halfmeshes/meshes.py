@@ -106,7 +106,7 @@ def read_mesh(text):
     if text == "":
         return Mesh([])
     faces = _read_faces(text)
-    numbers = [half for face in faces for half in face]
+    numbers = [number for row in faces for number in row]
     if not _are_all_halves(numbers):
         raise NotAMesh()
     nexts = [0] * len(numbers)

@@ -238,6 +238,8 @@ class Comparing(unittest.TestCase):
                 self.assertIs(half in mesh, 0 <= half < 2 * edges)
             self.assertNotIn(10 ** 30, mesh)
             self.assertNotIn(-10 ** 30, mesh)
+            self.assertNotIn(True, mesh)
+            self.assertNotIn(False, mesh)
 
     def test_equal_meshes(self):
         for nexts in helpers.many_nexts():
