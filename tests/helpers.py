@@ -2,7 +2,7 @@
 
 from itertools import permutations, product
 
-# Faces with known numbers of handles: 0, 1, 2 and 0, and a mesh of three pieces.
+# Texts of meshes and their counts; the last one has three pieces.
 KNOWN_TEXTS = {
     "0\n1": (2, 1, 1, 1, 0),
     "0 1": (1, 2, 1, 1, 0),
