@@ -18,6 +18,38 @@
 [(0, 1), (1, 0), (2, 3), (3, 2)]
 >>> len(list(small_meshes(2, 1))), len(list(small_meshes(1, 2)))
 (10, 4)
+
+>>> from halfmeshes.books import read_book
+>>> from halfmeshes.errors import Broken
+>>> from halfmeshes.runs import run
+>>> from halfmeshes.texts import read_routine
+
+>>> join = "routine join a b\\ngiven a.face == b.face\\ngiven a != b\\nlet c = a.prev\\nlet d = b.prev"
+>>> join = join + "\\nlet g = a.face\\nlet u = a.corner\\nlet v = b.corner\\nmake p q"
+>>> join = join + "\\nc.next = p\\np.prev = c\\np.next = b\\nb.prev = p\\nd.next = q\\nq.prev = d\\nq.next = a\\na.prev = q"
+>>> join = join + "\\np.face = g\\ng.some = p\\nnew face f\\nround q.face = f\\nf.some = q"
+>>> join = join + "\\np.corner = u\\nq.corner = v\\ntell p"
+>>> routine = read_routine(join)
+>>> routine.halves, routine.told, len(routine)
+(('a', 'b'), ('p',), 25)
+
+>>> outcome = run(routine, Mesh([1, 0]), [0, 1])
+>>> outcome.mesh.faces(), outcome.told, sorted(outcome.kept.items())
+([[0, 3], [1, 2]], [2], [(0, 0), (1, 1)])
+>>> bad = read_routine("routine bad a\\nlet b = a.next\\na.next = a")
+>>> run(bad, Mesh([0, 1]), [0]).mesh.nexts()
+[0, 1]
+>>> try:
+...     run(bad, Mesh([1, 0]), [0])
+... except Broken as e:
+...     print(e.fault, e.line)
+links 4
+
+>>> book = read_book(join + "\\n\\nscript twice a b\\ngiven a.face == b.face\\ngiven a != b\\ncall p = join a b\\ncall join p b")
+>>> book.names(), book["twice"].halves, len(book["twice"])
+(['join', 'twice'], ('a', 'b'), 5)
+>>> run(book["twice"], Mesh([1, 0]), [0, 1]).mesh.counts()
+(3, 2, 3, 1, 0)
 """
 
 import doctest

@@ -23,13 +23,21 @@ CLASSES = {
         "nexts": [], "faces": [], "corners": [], "pieces": [], "counts": [], "text": [],
         "is_one_face": ["first", "second"], "is_one_corner": ["first", "second"],
     },
+    ("texts", "Routine"): {"__len__": []},
+    ("books", "Script"): {"__len__": [], "routine": ["name"]},
+    ("books", "Book"): {"__getitem__": ["name"], "__contains__": ["name"], "__len__": [], "names": []},
 }
 FUNCTIONS = {
     ("meshes", "read_mesh"): ["text"],
     ("likeness", "numbered"): ["mesh", "halves"],
     ("likeness", "renaming"): ["first", "second", "pairs"],
     ("likeness", "small_meshes"): ["edges", "named"],
+    ("texts", "is_name"): ["text"],
+    ("texts", "read_routine"): ["text"],
+    ("runs", "run"): ["deed", "mesh", "halves"],
+    ("books", "read_book"): ["text"],
 }
+FILES = ("errors", "meshes", "likeness", "lines", "texts", "states", "runs", "books")
 
 
 def found(file, name):
@@ -56,10 +64,12 @@ class Interface(unittest.TestCase):
                 self.check(vars(found(file, name))[method], ["self"] + names)
 
     def test_modules_keep_no_state(self):
-        for file in ("errors", "meshes", "likeness"):
+        for file in FILES:
             values = [value for key, value in vars(import_module("halfmeshes." + file)).items()
                       if not key.startswith("__")]
-            self.assertFalse([value for value in values if isinstance(value, (list, dict, set))])
+            self.assertFalse([value for value in values if isinstance(value, (list, set))])
+            for table in [value for value in values if isinstance(value, dict)]:
+                self.assertTrue(all(inspect.isfunction(value) for value in table.values()))
 
 
 if __name__ == "__main__":

@@ -29,6 +29,10 @@ METHODS = set("""
     zfill bit_length removeprefix removesuffix rindex isascii isdecimal isnumeric add discard
     __init__
 """.split())
+BARRED_ATTRIBUTES = set("""
+    items keys values pop update append clear extend insert remove reverse setdefault sort args
+    encode decode hex fromhex format format_map mro real imag numerator denominator
+""".split())
 NODES = (
     ast.FunctionDef, ast.ClassDef, ast.Return, ast.Delete, ast.Assign, ast.AugAssign, ast.For,
     ast.While, ast.If, ast.Raise, ast.Try, ast.Assert, ast.ImportFrom, ast.Expr, ast.Pass,
@@ -179,7 +183,8 @@ class Language(unittest.TestCase):
             self.assertNotRegex(text, r"\\[^n\\'\"t]", name)
 
     def test_builtins(self):
-        known = set(dir(builtins))
+        # Running examples binds _ among the builtins.
+        known = set(dir(builtins)) - {"_"}
         for name, _, tree in self.files:
             self.assertEqual([one for one in bound_names(tree) if one in known], [], name)
             for node in tree.body:
@@ -235,6 +240,36 @@ class Language(unittest.TestCase):
         for name, node in self.nodes(ast.Attribute):
             if isinstance(node.ctx, ast.Load):
                 self.assertIn(node.attr, methods | written | METHODS, (name, node.lineno))
+
+    def test_names_of_attributes_and_classes(self):
+        classes = [node for _, node in self.nodes(ast.ClassDef)]
+        methods = {one.name for node in classes for one in node.body if isinstance(one, ast.FunctionDef)}
+        for name, node in self.nodes(ast.Attribute):
+            if not isinstance(node.ctx, ast.Load):
+                self.assertNotIn(node.attr, BARRED_ATTRIBUTES | methods, (name, node.lineno))
+        for node in classes:
+            self.assertRegex(node.name, r"^[A-Z][A-Za-z]*$")
+            own = [one.name for one in node.body if isinstance(one, ast.FunctionDef)]
+            self.assertEqual(len(set(own)), len(own), node.name)
+            if "__getitem__" in own:
+                self.assertIn("__iter__", own)
+
+    def test_no_local_name_is_that_of_a_class_or_import(self):
+        for name, _, tree in self.files:
+            outer = {node.name for node in tree.body if isinstance(node, ast.ClassDef)}
+            outer |= {one.name for node in tree.body if isinstance(node, ast.ImportFrom) for one in node.names}
+            for function in [node for node in ast.walk(tree) if isinstance(node, ast.FunctionDef)]:
+                self.assertEqual(set(bound_names(function)) & outer, set(), (name, function.name))
+
+    def test_loops_do_not_change_what_they_go_over(self):
+        changing = ("append", "clear", "extend", "insert", "pop", "remove", "reverse", "setdefault", "update")
+        for name, loop in self.nodes(ast.For):
+            over = {ast.unparse(node) for node in ast.walk(loop.iter) if isinstance(node, (ast.Name, ast.Attribute))}
+            for node in ast.walk(loop):
+                if isinstance(node, ast.Call) and isinstance(node.func, ast.Attribute) and node.func.attr in changing:
+                    self.assertNotIn(ast.unparse(node.func.value), over, (name, node.lineno))
+                if isinstance(node, ast.Subscript) and not isinstance(node.ctx, ast.Load):
+                    self.assertNotIn(ast.unparse(node.value), over, (name, node.lineno))
 
     def test_raise_and_except(self):
         for name, node in self.nodes(ast.Raise):
