@@ -140,11 +140,16 @@ def _is_integer(value):
     return isinstance(value, int) and not isinstance(value, bool)
 
 
+def are_halves(numbers, count):
+    """Tell whether numbers are different integers from 0 to below a count."""
+    if not all([_is_integer(number) and 0 <= number < count for number in numbers]):
+        return False
+    return len(set(numbers)) == len(numbers)
+
+
 def _are_all_halves(numbers):
     """Tell whether a list holds each half of a mesh just once."""
-    if len(numbers) % 2 == 1 or not all([_is_integer(number) for number in numbers]):
-        return False
-    return sorted(numbers) == list(range(len(numbers)))
+    return len(numbers) % 2 == 0 and are_halves(numbers, len(numbers))
 
 
 def _inverse(links):

@@ -18,13 +18,18 @@ class Outcome:
 
 def run(deed, mesh, halves):
     """Run a routine or script on a mesh and return the outcome."""
-    _check_facts(deed, mesh, halves)
+    check_facts(deed, mesh, halves)
+    return run_given(deed, mesh, halves)
+
+
+def run_given(deed, mesh, halves):
+    """Run a deed whose facts hold, and return the outcome."""
     if isinstance(deed, Script):
         return _run_script(deed, mesh, halves)
     return _run_routine(deed, mesh, halves)
 
 
-def _check_facts(deed, mesh, halves):
+def check_facts(deed, mesh, halves):
     """Raise the error for the first fact that does not hold."""
     meanings = dict(zip(deed.halves, halves))
     for at, step in enumerate(deed.steps):
@@ -36,26 +41,33 @@ def _holds(mesh, meanings, condition):
     """Tell whether a condition holds on a mesh."""
     first = _reached(mesh, meanings[condition.left.name], condition.left.links)
     second = _reached(mesh, meanings[condition.right.name], condition.right.links)
-    if condition.left.kind == "face":
-        same = mesh.is_one_face(first, second)
-    elif condition.left.kind == "corner":
-        same = mesh.is_one_corner(first, second)
-    else:
-        same = first == second
-    return same == condition.equal
+    return are_same(mesh, condition.left.kind, first, second) == condition.equal
+
+
+def are_same(mesh, kind, first, second):
+    """Tell whether two halves are one half of a mesh, or in one face or corner."""
+    if kind == "face":
+        return mesh.is_one_face(first, second)
+    if kind == "corner":
+        return mesh.is_one_corner(first, second)
+    return first == second
 
 
 def _reached(mesh, start, links):
     """Return the half that is reached by some links of a mesh."""
     half = start
     for link in links:
-        if link == "next":
-            half = mesh.after(half)
-        elif link == "prev":
-            half = mesh.before(half)
-        else:
-            half = mesh.twin(half)
+        half = link_of(mesh, half, link)
     return half
+
+
+def link_of(mesh, half, link):
+    """Return the half of a mesh to which a link leads."""
+    if link == "next":
+        return mesh.after(half)
+    if link == "prev":
+        return mesh.before(half)
+    return mesh.twin(half)
 
 
 class Work:

@@ -313,3 +313,27 @@ def drawn_book(seed):
 
 def book_text(deeds):
     return "\n\n".join("\n".join(lines) for lines in deeds.values())
+
+
+CHAINED = ("join", "bridge", "spur", "halve", "merge", "cut", "prune", "erase", "swapii", "swapoo", "swapio", "swapoi")
+
+
+def drawn_chain(seed):
+    """The halves and the lines of a script that calls some routines, mostly with the facts of the first one."""
+    draws = Draws(seed)
+    known = NAMES[:1 + draws.below(2)]
+    heads = {name: samples.RIGHT[name].split("\n")[0].split(" ")[2:] for name in CHAINED}
+    halves, lines = " ".join(known), []
+    for at in range(1 + draws.below(4)):
+        name = draws.pick([one for one in CHAINED if at or len(heads[one]) == len(known)])
+        if at == 0:
+            facts = [line for line in samples.RIGHT[name].split("\n") if line.startswith("given ")]
+            if facts and draws.chance(1, 3):
+                facts.remove(draws.pick(facts))
+            lines += facts
+        passed = known if at == 0 else [draws.pick(known) for _ in heads[name]]
+        told = plain.told_by(samples.RIGHT[name].split("\n"))
+        new = [f"t{at}x{place}" for place in range(len(told))]
+        lines.append(" ".join(["call"] + new + ["="] * bool(new) + [name] + passed))
+        known = known + new
+    return [halves] + lines

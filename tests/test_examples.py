@@ -50,6 +50,57 @@ links 4
 (['join', 'twice'], ('a', 'b'), 5)
 >>> run(book["twice"], Mesh([1, 0]), [0, 1]).mesh.counts()
 (3, 2, 3, 1, 0)
+
+>>> from halfmeshes.fillings import Partial, filled, needed_edges
+>>> from halfmeshes.pictures import picture, pictures
+>>> from halfmeshes.judging import breaks
+>>> from halfmeshes.changes import changes
+>>> from halfmeshes.comparing import needless, parting
+>>> from halfmeshes.facts import needed_facts
+>>> from halfmeshes.live import LiveMesh
+
+>>> partial = Partial([None, None])
+>>> needed_edges(partial, {0: 0, 1: 1}, {0: 0, 1: 1}), needed_edges(partial, {0: 0, 1: 1}, {0: 1, 1: 0})
+(0, 1)
+>>> filled(partial, {0: 0, 1: 1}, {0: 1, 1: 0}).counts()
+(2, 2, 2, 1, 0)
+>>> needed_edges(partial, {0: 0, 1: 1}, {0: 0, 1: 1}, joined=[(0, 1)])
+2
+
+>>> picture(routine, Mesh([1, 0]), [0, 1])
+([0, 1], [(0, 'prev', 1), (1, 'prev', 0)], [])
+>>> len(pictures(read_routine("routine look a\\nlet b = a.next\\nlet c = b.twin")))
+3
+
+>>> breaks(routine) is None
+True
+>>> mesh, halves = breaks(read_routine(join.replace("\\ngiven a != b", "")))
+>>> mesh.edges, halves[0] == halves[1]
+(1, True)
+
+>>> len(changes(routine)), changes(routine)[0][0]
+(1, (1, 0, 1, 0, 0))
+
+>>> nothing = read_routine("routine nothing a b\\ngiven a.face == b.face\\ngiven a != b")
+>>> mesh, halves = parting(routine, nothing)
+>>> mesh.edges, needless(routine)
+(1, [])
+
+>>> needed_facts(routine, ["a != b", "a.face == b.face", "a.corner == b.corner", "a.next == b"])
+[[0, 1], [0, 3]]
+
+>>> live = LiveMesh(book, Mesh([1, 0]))
+>>> live.mark("a", 0)
+>>> live.mark("b", 1)
+>>> live.run("join", "a", "b", tells=["p"])
+[2]
+>>> live.run_all([("join", ["p", "b"], ["q"]), ("twice", ["q", "b"], [])])
+[[4], []]
+>>> live.half("q"), live.mesh.counts()
+(4, (5, 2, 5, 1, 0))
+>>> live.undo()
+>>> live.marks(), live.mesh.counts()
+(['a', 'b', 'p'], (2, 2, 2, 1, 0))
 """
 
 import doctest
