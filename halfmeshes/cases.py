@@ -116,7 +116,7 @@ class Case:
 
     `likes` tells for tuples of a kind, a stage and two halves whether these
     are in one face, or one corner, at this stage. `facts` is the number of the
-    facts that were looked at.
+    facts that were looked at, `judged` that of the routines whose labels were.
     """
 
     def __init__(self, passed):
@@ -126,6 +126,7 @@ class Case:
         self.reads = []
         self.likes = {}
         self.facts = 0
+        self.judged = 0
         self.stages = [Stage({"next": {}, "prev": {}}, {}, 0)]
         self.courses = []
         self.is_broken = False
@@ -138,6 +139,7 @@ class Case:
         other.reads = list(self.reads)
         other.likes = {key: self.likes[key] for key in self.likes}
         other.facts = self.facts
+        other.judged = self.judged
         other.stages = list(self.stages)
         other.courses = self.courses[:-1] + [course.branched() for course in self.courses[-1:]]
         return other

@@ -9,8 +9,8 @@ from halfmeshes.texts import Routine
 def needed_facts(routine, facts):
     """Return the smallest sets of facts under which a routine never breaks."""
     given = list(facts)
-    for index, fact in enumerate(given):
-        _check_fact(routine, index, fact)
+    for at, fact in enumerate(given):
+        _check_fact(routine, at, fact)
     rows = [[]]
     while rows:
         found = [row for row in rows if _is_enough(routine, [given[index] for index in row])]

@@ -55,14 +55,15 @@ def broken_case(deed):
 def _broken_rows(case, rounds):
     """Return the two rows of ways with which a case breaks, or None.
 
-    The labels are looked at that the last routine has left.
+    If a routine has just ended, the labels are looked at that it has left.
     """
     rows = [one.rows(1)[0] for one in rounds]
     if case.is_broken:
         return rows
     spans = case.courses[-1].spans
-    if not spans or case.courses[-1].since != spans[-1].until:
+    if len(spans) == case.judged:
         return None
+    case.judged = len(spans)
     for at, one in enumerate(rounds):
         row = _wrong_row(one, spans[-1])
         if row is not None:

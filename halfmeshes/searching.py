@@ -106,7 +106,8 @@ def _answered(case, question):
 def _check_facts(case, deeds):
     """Look at the facts that were not looked at yet; raise the error if one does not hold."""
     facts = [(deed, at) for deed in deeds for at, step in enumerate(deed.steps) if step.action == "given"]
-    for deed, at in facts[case.facts:]:
+    while case.facts < len(facts):
+        deed, at = facts[case.facts]
         if not _agrees(case, dict(zip(deed.halves, case.passed)), deed.steps[at].detail):
             raise FactFails(at + 1)
         case.facts += 1
