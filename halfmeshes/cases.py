@@ -86,7 +86,6 @@ class Course:
         self.made = 0
         self.since = 0
         self.made_before = 0
-        self.has_labels = False
         self.label_lines = {kind: [] for kind in KINDS}
         self.checked = []
         self.spans = []
@@ -99,7 +98,6 @@ class Course:
         other.made = self.made
         other.since = self.since
         other.made_before = self.made_before
-        other.has_labels = self.has_labels
         other.label_lines = {kind: list(self.label_lines[kind]) for kind in KINDS}
         other.checked = list(self.checked)
         other.spans = list(self.spans)

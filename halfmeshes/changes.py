@@ -14,7 +14,7 @@ def changes(deed):
     broken = breaks(deed)
     if broken is not None:
         raise Breaks(broken[0], broken[1])
-    known = _known_changes(deed)
+    known = known_changes(deed)
     shown = {}
     smallest(len(deed.halves), lambda mesh, halves: _shows_last(deed, mesh, halves, known, shown))
     for change, (case, ways, joined) in known.items():
@@ -34,7 +34,7 @@ def _shows_last(deed, mesh, halves, known, shown):
     return all([one in shown for one in known])
 
 
-def _known_changes(deed):
+def known_changes(deed):
     """Return the dict of all changes, with the case, the ways and the joined halves that cause each."""
     found = {}
     search = Search([deed])
@@ -71,7 +71,7 @@ def _kinds_of_rows(rounds, pieces):
     found = {}
     for row in rounds.rows():
         more = _count(rounds.numbers_at(last, row)) - _count(rounds.numbers_at(0, row))
-        classes = tuple(pieces.classes(pieces.connected(rounds, row)))
+        classes = tuple(pieces.connected(rounds, row))
         found.setdefault((more, classes), row)
     return found
 

@@ -20,7 +20,7 @@ def parting(first, second):
         raise NeverGiven()
     for deed in (first, second):
         _check_right(deed)
-    case = _parting_case(first, second)
+    case = parting_case(first, second)
     if case is None:
         return None
     found = smallest(len(first.halves), lambda mesh, halves: _differ_on(first, second, mesh, halves))
@@ -42,7 +42,7 @@ def _is_needless(routine, at):
         shorter = read_routine("\n".join(routine.lines[:at] + routine.lines[at + 1:]))
     except (BadLine, UnknownName, WrongKind):
         return False
-    return broken_case(shorter) is None and _parting_case(routine, shorter) is None
+    return broken_case(shorter) is None and parting_case(routine, shorter) is None
 
 
 def _check_right(deed):
@@ -67,7 +67,7 @@ def _differ_on(first, second, mesh, halves):
     return renaming(one.mesh, other.mesh, pairs) is None
 
 
-def _parting_case(first, second):
+def parting_case(first, second):
     """Return a case in which the effects of two deeds that never break differ, or None."""
     search = Search([first, second])
     case = search.ended()

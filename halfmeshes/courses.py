@@ -67,10 +67,11 @@ class OpenRun:
         return self.case.are_alike(kind, self.course.since, first, second) == condition.equal
 
     def note(self, label, action, half):
-        """Note a label line, ahead of the first of which the links must be right."""
-        if not self.course.has_labels:
-            self.check_links()
-        self.course.has_labels = True
+        """Note a label line.
+
+        Behind it no link is written, so it does not matter for the verdict that
+        the links are looked at only at the end.
+        """
         kind, origin, number = label
         self.course.label_lines[kind].append((action, half, origin, number))
 
@@ -153,7 +154,6 @@ def _end_span(case, course):
     course.spans.append(Span(course.since, len(case.stages), course.label_lines))
     course.since = len(case.stages)
     course.made_before = course.made
-    course.has_labels = False
     course.label_lines = {kind: [] for kind in KINDS}
     case.stages.append(Stage(course.written, course.dropped, course.made))
 

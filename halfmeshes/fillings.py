@@ -58,27 +58,23 @@ def needed_edges(partial, faces, corners, *, joined=()):
 
 
 class Draft:
-    """A mesh to which edges are added ahead of halves."""
+    """A mesh to which edges are added ahead of the halves that it has at first."""
 
     def __init__(self, nexts):
         self.behind = list(nexts)
-        self.ahead = [0] * len(nexts)
-        for half, other in enumerate(nexts):
-            self.ahead[other] = half
+        self.ahead = {other: half for half, other in enumerate(nexts)}
 
     def add_edge(self, first, second):
         """Add an edge with a half directly ahead of each of two halves.
 
         The ways around the two corners are exchanged at their ends, and no
-        other way changes; so nothing does if both halves are one.
+        other way changes.
         """
         for half in (first, second):
             new = len(self.behind)
-            before = self.ahead[half]
-            self.behind[before] = new
-            self.ahead[half] = new
+            self.behind[self.ahead[half]] = new
             self.behind.append(half)
-            self.ahead.append(before)
+            self.ahead[half] = new
 
     def as_mesh(self):
         """Return the mesh as it is."""

@@ -22,6 +22,7 @@ class Pieces:
                        for first, second in _pairs_of(case, case.stages[-1], living)]
         self.remaining = [self._number(half) for half in living]
         self.beside_rest = [half for half in living if half < FIRST_MADE and _is_beside_rest(case, half)]
+        self.always = self._pairs_of_both()
 
     def _number(self, half):
         """Return the number of a half."""
@@ -39,8 +40,20 @@ class Pieces:
                 least = [new if number == old else number for number in least]
         return least
 
+    def _pairs_of_both(self):
+        """Return pairs of halves that known links connect at the start and at the end."""
+        leaders = {}
+        found = []
+        for half, key in enumerate(zip(self.classes(self.at_start), self.classes(self.at_end))):
+            found.append((leaders.setdefault(key, half), half))
+        return found
+
     def connected(self, rounds, row):
-        """Return the pairs of the halves that the ways of a row connect, at the start and at the end."""
+        """Return the classes of the halves that are connected at the start and at the end, by a row of ways."""
+        return self.classes(self.always + self._pairs_of_ways(rounds, row))
+
+    def _pairs_of_ways(self, rounds, row):
+        """Return the pairs of the halves that the ways of a row connect."""
         ways = list(zip(rounds.chains.ends, row))
         if rounds.kind == "face":
             return ways

@@ -81,19 +81,17 @@ class Chains:
 
 
 def _used_halves(case, kind):
-    """Return the dict of the halves whose faces or corners the runs use or change."""
+    """Return a dict of halves, among them one of each chain that the runs use or change.
+
+    If a chain is changed, a half of it gets another previous half, as the links
+    are right at each stage.
+    """
     used = {half: True for key in case.likes if key[0] == kind for half in key[2]}
     for course in case.courses:
         for lines in [span.label_lines[kind] for span in course.spans] + [course.label_lines[kind]]:
             used.update({line[1]: True for line in lines})
             used.update({line[3]: True for line in lines if line[2] == "old"})
-        used.update(course.dropped)
         used.update({half: True for half in course.written["prev"]})
-        if kind == "face":
-            used.update({half: True for half in course.written["next"]})
-        else:
-            twins = case.links["twin"]
-            used.update({twins[half]: True for half in course.written["next"] if half in twins})
     return used
 
 

@@ -134,6 +134,10 @@ class Known(Judged):
         self.assertEqual(self.check(routine("a", "make p q"), 8), 1)
         self.assertEqual(self.check(routine("a", "make p q", "let f = p.face"), 9), 1)
         self.assertEqual(self.check(routine("a", "make p q", "let r = p.next"), 10), 1)
+        # All links around are read, and none of them is written.
+        around = ["let n = a.next", "let p = a.prev", "let t = a.twin", "let m = t.next", "let k = t.prev"]
+        self.assertEqual(self.check(routine("a", *around, "drop a"), 13), 1)
+        self.assertIsNone(self.check(routine("a", *around, "tell t"), 14))
         # Wrong only behind a half whose link was not read.
         self.assertEqual(self.check(routine("a", "let b = a.next.next", "b.prev = a", "a.next = b"), 11), 1)
         self.assertEqual(self.check(routine("a b", "if a.next == b.twin", "drop b", "end", "tell a"), 12), 1)

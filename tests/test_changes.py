@@ -159,6 +159,17 @@ class Known(Changed):
         self.assertEqual((change, looking.result(deed, mesh, halves)), ((0, 1, 1, 0, 0), change))
         self.assertTrue(4 < mesh.edges <= 30)
 
+    def test_pieces_that_are_known_as_a_whole(self):
+        # What is no piece of its own may be in the piece of another half, but not in a known one.
+        lines = samples.RIGHT["swapoo"].split("\n")
+        stick = ["given a.next == a.twin", "given a.prev == a.twin"]
+        loop = ["given a.next == a", "given a.twin.next == a.twin"]
+        for facts, expected in ((stick, {(-1, -1, 0, -1, 0): 2}), (loop, {(-1, -1, 0, -1, 0): 2}),
+                                (stick[:1], {(-1, -1, 0, -1, 0): 2, (-1, -1, 0, 0, 1): 2}),
+                                (loop[:1], {(-1, -1, 0, -1, 0): 2, (-1, -1, 0, 0, 1): 2})):
+            deed = read_routine("\n".join(lines[:1] + facts + lines[1:]))
+            self.assertEqual(self.told(deed), expected, facts)
+
     def test_changes_that_need_five_edges(self):
         # Two pieces with so many corners have fewer edges than one with as many and two faces.
         lines = samples.RIGHT["swapoo"].split("\n")

@@ -171,6 +171,29 @@ w.some = q"""
         second = script("a", "let b = a.prev", "call behind b", above=BOOK + "\n\n" + behind)
         self.assertIsNone(self.check(first, second))
 
+    def test_loops(self):
+        loop = """routine loop a
+let c = a.prev
+let g = a.face
+let u = a.corner
+make p q
+c.next = p
+p.prev = c
+p.next = a
+a.prev = p
+q.next = q
+q.prev = q
+p.face = g
+p.corner = u
+q.corner = u
+new face f
+q.face = f
+f.some = q"""
+        other = loop.replace("make p q", "make q p")
+        self.assertIsNone(self.check(read_routine(loop), read_routine(loop)))
+        self.assertIsNone(self.check(read_routine(loop), read_routine(other)))
+        self.assertEqual(self.check(read_routine(other), TWO["spur"]), 1)
+
     def test_scripts_in_either_order(self):
         one = script("a b", "call p q c = spur a", "call r s d = spur b")
         other = script("a b", "call r s d = spur b", "call p q c = spur a")
