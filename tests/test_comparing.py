@@ -6,6 +6,7 @@ from halfmeshes.books import read_book
 from halfmeshes.comparing import needless, parting
 from halfmeshes.errors import Breaks, FactFails, MeshError, NeverGiven
 from halfmeshes.judging import breaks
+from halfmeshes.likeness import renaming
 from halfmeshes.meshes import Mesh
 from halfmeshes.runs import run
 from halfmeshes.texts import read_routine
@@ -43,24 +44,23 @@ m.corner = u"""
 
 
 def has_same_effect(nexts, kept, other_nexts, other_kept):
-    """Whether the effects are the same, by going through all renamings that keep what remains."""
+    """Whether the effects are the same, for small meshes by going through all renamings that keep what remains."""
     if sorted(kept) != sorted(other_kept) or len(nexts) != len(other_nexts):
         return False
     pairs = [(kept[half], other_kept[half]) for half in kept]
-    if len(nexts) > 10:
-        return None
+    if len(nexts) > 8:
+        return renaming(Mesh(nexts), Mesh(other_nexts), pairs) is not None
     return any(helpers.is_renaming(nexts, other_nexts, pairs, one) for one in helpers.bijections(len(nexts) // 2)
                if all(one[a] == b for a, b in pairs))
 
 
 def differs(first, second, mesh, halves):
-    """Whether the effects differ on a mesh; None if a fact fails, or if the meshes are too large."""
+    """Whether the effects differ on a mesh, or None if a fact fails."""
     try:
         one, other = run(first, mesh, halves), run(second, mesh, halves)
     except FactFails:
         return None
-    same = has_same_effect(one.mesh.nexts(), one.kept, other.mesh.nexts(), other.kept)
-    return None if same is None else not same
+    return not has_same_effect(one.mesh.nexts(), one.kept, other.mesh.nexts(), other.kept)
 
 
 class Parted(unittest.TestCase):
@@ -71,7 +71,7 @@ class Parted(unittest.TestCase):
             return None
         mesh, halves = found
         self.assertEqual((type(found), type(mesh), type(halves)), (tuple, Mesh, list))
-        self.assertIn(differs(first, second, mesh, halves), (True, None))
+        self.assertIs(differs(first, second, mesh, halves), True)
         for deed in (first, second):
             self.assertNotIn(looking.result(deed, mesh, halves), (BREAKS, looking.FAILS))
         self.assertLessEqual(mesh.edges, 30)
@@ -83,7 +83,7 @@ class Parted(unittest.TestCase):
         if verdict is None:
             rows = rows + list(looking.drawn_rows(seed, len(first.halves)))
         for mesh, halves in rows[seed % 3::3 if seed else 1]:
-            if mesh.edges < 4 and (verdict is None or mesh.edges < verdict):
+            if verdict is None or mesh.edges < verdict:
                 self.assertIsNot(differs(first, second, mesh, halves), True, (first.lines, second.lines))
         return verdict
 

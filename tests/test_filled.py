@@ -156,14 +156,27 @@ class Filled(unittest.TestCase):
         self.check(partial, same, same, joined)
 
     def test_no_mesh_with_fewer_edges(self):
-        for edges, seeds in ((1, 60), (2, 130)):
+        counts = {}
+        for edges, seeds in ((1, 60), (2, 200)):
             for seed in range(seeds):
                 draws = drawing.Draws(1000 * edges + seed)
                 partial, faces, corners, joined = drawn_ways(draws, drawn_partial(draws, edges, 7))
                 many = needed_edges(partial, faces, corners, joined=joined)
-                for rest in range(min(many, 3 if seed < 12 else 4 - edges)):
-                    for nexts in extending(partial.nexts(), rest):
-                        self.assertFalse(shows(Mesh(nexts), partial, faces, corners, joined))
+                if many < 3 or many == 3 and counts.get(3, 0) < 12:
+                    self.look(partial, faces, corners, joined)
+                    counts[many] = counts.get(many, 0) + 1
+        self.assertTrue(min(counts.get(many, 0) for many in range(4)) > 9, counts)
+
+    def test_no_mesh_with_three_edges(self):
+        partial = Partial([None, None, None, 1])
+        self.assertEqual(needed_edges(partial, {0: 0, 1: 2, 2: 3}, {0: 0, 2: 1, 3: 2}, joined=[(0, 1), (1, 2)]), 4)
+        self.look(partial, {0: 0, 1: 2, 2: 3}, {0: 0, 2: 1, 3: 2}, [(0, 1), (1, 2)])
+
+    def look(self, partial, faces, corners, joined):
+        """Go through all meshes with fewer edges."""
+        for rest in range(needed_edges(partial, faces, corners, joined=joined)):
+            for nexts in extending(partial.nexts(), rest):
+                self.assertFalse(shows(Mesh(nexts), partial, faces, corners, joined))
 
 
 def extending(nexts, rest):
